@@ -1,0 +1,1 @@
+"""Two numbers changed by polynomials, and what makes them straight again."""

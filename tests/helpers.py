@@ -1,0 +1,234 @@
+"""What several tests share: wrong values, numbers drawn by a fixed rule, and a slow way to reckon."""
+
+import unittest
+from fractions import Fraction
+
+from straightened.changes import Change
+from straightened.errors import TooMany
+from straightened.polys import Poly
+from straightened.ratios import Ratio
+
+
+class Thing:
+    """A value of a kind that the package does not know."""
+
+
+def strange():
+    """Values of all kinds, none of which is a number, a point, a Poly, a Change .."""
+    return [None, True, False, "", "x1", "12", b"1", {}, {0: 1}, {1, 2}, Thing(), Thing, len, object(), ((),), [[]]]
+
+
+def not_numbers():
+    return strange() + [[], (), [1], (1,), (1, 2), [Ratio(1)], Poly.number(1), Change.same(), Fraction(1, 2)]
+
+
+def not_counts():
+    """What is no COUNT: numbers too, as a Ratio is none, of whatever worth."""
+    return not_numbers() + [-1, -18, Ratio(0), Ratio(2), Ratio(1, 2)]
+
+
+def not_lists():
+    """What is neither a list nor a tuple."""
+    return [
+        None, True, 0, 5, "", "12", b"12", {}, {0: 1}, {1, 2}, Thing(), list, Ratio(1), Poly.x(), Change.same(),
+        range(2), iter([1]),
+    ]
+
+
+def not_lines():
+    holding = [[1, wrong] for wrong in not_numbers()] + [[wrong, 1] for wrong in not_numbers()]
+    return not_lists() + holding + [(0, True), (False,), [0] * 32, [1] * 32, tuple([0] * 32), [[1, 2]]]
+
+
+def not_points():
+    holding = [(1, wrong) for wrong in not_numbers()] + [(wrong, 1) for wrong in not_numbers()]
+    return not_lists() + holding + [(), (1,), (1, 2, 3), [1, 2], [Ratio(1), Ratio(2)], (True, False), (0, True)]
+
+
+def not_directions():
+    unfit = [(0, 0), (0, 2), (0, -1), (2, 1), (-1, 0), (Ratio(1, 2), 1), (0, Ratio(1, 2)), (Ratio(0), Ratio(0))]
+    return not_points() + unfit + [(0, True), (True, 0), (1, False), [1, 0], [0, 1], (1, 0, 0)]
+
+
+def not_polys():
+    return strange() + [0, 1, Ratio(1), [], [(1, 0, 1)], ((1, 0, 1),), [1, 2], Change.same(), "x"]
+
+
+def not_changes():
+    return strange() + [0, 1, Ratio(1), [], (Poly.x(), Poly.y()), [Poly.x(), Poly.y()], Poly.x(), (1, 2)]
+
+
+def not_many():
+    """What is no INTEGER from 1 to 18."""
+    return not_counts() + [0, 19, 36, 10 ** 40]
+
+
+class Draw:
+    """Numbers drawn by a fixed rule, the same ones in each run."""
+
+    def __init__(self, seed):
+        self.now = seed
+
+    def below(self, limit):
+        self.now = (self.now * 6364136223846793005 + 1442695040888963407) % 2 ** 64
+        return (self.now >> 33) % limit
+
+    def whole(self, size=5):
+        return self.below(2 * size + 1) - size
+
+    def ratio(self, size=5):
+        return Ratio(self.whole(size), 1 + self.below(size))
+
+    def number(self, size=5):
+        """An INTEGER or a Ratio."""
+        return self.whole(size) if self.below(2) else self.ratio(size)
+
+    def but_nought(self, size=5):
+        found = self.number(size)
+        while fraction(found) == 0:
+            found = self.number(size)
+        return found
+
+    def line(self, longest):
+        """A list or a tuple, perhaps with noughts at its end."""
+        found = [self.number() for _ in range(self.below(longest + 1))]
+        return found if self.below(2) else tuple(found)
+
+    def poly(self, most):
+        """A Poly of a degree of at most this."""
+        found = {}
+        for _ in range(self.below(6)):
+            i = self.below(most + 1)
+            found[(i, self.below(most + 1 - i))] = self.but_nought()
+        return Poly([(i, j, found[(i, j)]) for i, j in found])
+
+    def point(self):
+        return (self.number(), self.number())
+
+    def change(self, most):
+        return Change(self.poly(most), self.poly(most))
+
+    def rows(self):
+        """Rows of numbers whose determinant is not 0."""
+        while True:
+            found = [[self.number(), self.number()], [self.number(), self.number()]]
+            (a, b), (c, d) = [[fraction(number) for number in row] for row in found]
+            if a * d != b * c:
+                return found
+
+    def direction(self):
+        return (0, 1) if self.below(4) == 0 else (1, self.number())
+
+
+def fraction(number):
+    """The number in Python's own kind of fractions."""
+    return Fraction(number.top, number.bottom) if isinstance(number, Ratio) else Fraction(number)
+
+
+def fractions(line):
+    """The line in Python's own fractions, without noughts at its end."""
+    found = [fraction(number) for number in line]
+    while found and found[-1] == 0:
+        found.pop()
+    return found
+
+
+def amounts(poly):
+    """The Poly's amounts by both powers, in Python's own fractions."""
+    return {(i, j): fraction(amount) for i, j, amount in poly.entries()}
+
+
+def without_noughts(table):
+    return {key: table[key] for key in table if table[key] != 0}
+
+
+def slow_sum(one, two, factor=1):
+    """Of two tables of amounts: the one, and factor times the other one."""
+    found = dict(one)
+    for key in two:
+        found[key] = found.get(key, 0) + factor * two[key]
+    return without_noughts(found)
+
+
+def slow_product(one, two):
+    found = {}
+    for i, j in one:
+        for k, m in two:
+            found[(i + k, j + m)] = found.get((i + k, j + m), 0) + one[(i, j)] * two[(k, m)]
+    return without_noughts(found)
+
+
+def slow_power(one, many):
+    found = {(0, 0): Fraction(1)}
+    for _ in range(many):
+        found = slow_product(found, one)
+    return found
+
+
+def slow_put(table, first, second):
+    found = {}
+    for i, j in table:
+        part = slow_product(slow_power(first, i), slow_power(second, j))
+        found = slow_sum(found, part, table[(i, j)])
+    return found
+
+
+def slow_worth(table, x, y):
+    return sum([table[(i, j)] * x ** i * y ** j for i, j in table], Fraction(0))
+
+
+class Case(unittest.TestCase):
+    """Asks for errors with their attributes, and that nothing passed is changed."""
+
+    def refused(self, error, attributes, function, *values, **named):
+        """The call raises just this error, its attributes are these, and what was passed stays as it was."""
+        kept = repr((values, named))
+        with self.assertRaises(error) as caught:
+            function(*values, **named)
+        self.assertIs(caught.exception.__class__, error)
+        self.assertEqual(sorted(vars(caught.exception)), sorted(attributes))
+        for name in attributes:
+            self.assert_alike(getattr(caught.exception, name), attributes[name])
+        self.assertEqual(repr((values, named)), kept)
+
+    def refused_value(self, error, value, function, *values, **named):
+        self.refused(error, {"value": value}, function, *values, **named)
+
+    def refused_degree(self, limit, function, *values, **named):
+        self.refused(TooMany, {"what": "degree", "limit": limit}, function, *values, **named)
+
+    def assert_alike(self, one, two):
+        """Of the same kind, and the same or equal."""
+        self.assertIs(one.__class__, two.__class__)
+        self.assertTrue(one is two or one == two, (one, two))
+
+    def assert_bool(self, found, wanted):
+        self.assertIs(found, wanted)
+
+    def assert_ratio(self, found, wanted):
+        """A Ratio of this worth, a number of the package or of Python."""
+        self.assertIs(found.__class__, Ratio)
+        self.assertEqual(fraction(found), fraction(wanted))
+
+    def assert_integer(self, found, wanted):
+        self.assertIs(found.__class__, int)
+        self.assertEqual(found, wanted)
+
+    def assert_line(self, found, wanted):
+        """A list of Ratios of these worths, without a nought at its end."""
+        self.assertIs(found.__class__, list)
+        for number in found:
+            self.assertIs(number.__class__, Ratio)
+        self.assertEqual([fraction(number) for number in found], fractions(wanted))
+
+    def assert_poly(self, found, wanted):
+        """A Poly with this table of amounts, in Python's own fractions or in numbers of the package."""
+        self.assertIs(found.__class__, Poly)
+        self.assertEqual(amounts(found), {powers: fraction(wanted[powers]) for powers in wanted})
+
+    def assert_pair(self, found, wanted):
+        """A tuple of two Ratios of these worths."""
+        self.assertIs(found.__class__, tuple)
+        self.assertEqual(len(found), 2)
+        for number, other in zip(found, wanted):
+            self.assert_ratio(number, other)
