@@ -94,11 +94,11 @@ def common(line, other):
 
 
 def trimmed(numbers):
-    """The Ratios without the noughts at their end, as a new list."""
+    """The list of Ratios without the noughts at its end, as a new list."""
     many = len(numbers)
     while many > 0 and numbers[many - 1].sign == 0:
         many -= 1
-    return list(numbers[:many])
+    return numbers[:many]
 
 
 def counted_degree(numbers):

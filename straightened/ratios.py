@@ -104,7 +104,7 @@ class Ratio:
             raise InvalidNumber(numbers)
         found = cls(0)
         for number in numbers:
-            found = found + as_ratio(number)
+            found = found + number
         return found
 
 
@@ -114,9 +114,5 @@ def is_number(value):
 
 
 def as_ratio(number):
-    """The number as a Ratio; every function that takes a NUMBER checks it here."""
-    if isinstance(number, Ratio):
-        return number
-    if not is_integer(number):
-        raise InvalidNumber(number)
-    return Ratio(number)
+    """The number as a Ratio; what is no NUMBER is refused."""
+    return number if isinstance(number, Ratio) else Ratio(number)

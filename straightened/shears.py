@@ -1,20 +1,18 @@
 """Directions, their levels, and shears along them."""
 
-from straightened.changes import Change, check_change, told_point
-from straightened.errors import InvalidDirection, InvalidPoint, TooMany
-from straightened.lines import degree, is_line, told
-from straightened.polys import MOST_DEGREE, Poly, poly_in_line
-from straightened.ratios import Ratio, as_ratio, is_number
+from straightened.changes import Change, check_change, is_point, told_point
+from straightened.errors import InvalidDirection, InvalidPoint
+from straightened.lines import counted_degree, is_line, told
+from straightened.polys import MOST_DEGREE, Poly, poly_in_line, refuse_poly_degree
+from straightened.ratios import Ratio
 from straightened.straights import check_straight, linear_rows
 
 
 def is_direction(value):
     """Whether any value is a tuple (0, 1), or (1, r)."""
-    if not isinstance(value, tuple) or len(value) != 2:
+    if not is_point(value):
         return False
-    if not is_number(value[0]) or not is_number(value[1]):
-        return False
-    ahead, behind = as_ratio(value[0]), as_ratio(value[1])
+    ahead, behind = told_point(value)
     return ahead == Ratio(1) or (ahead == Ratio(0) and behind == Ratio(1))
 
 
@@ -34,7 +32,7 @@ def told_direction(direction):
     """The direction as a tuple of two Ratios."""
     if not is_direction(direction):
         raise InvalidDirection(direction)
-    return as_ratio(direction[0]), as_ratio(direction[1])
+    return told_point(direction)
 
 
 def level(direction):
@@ -73,7 +71,6 @@ def shear(direction, line):
     """The change that leads a point v to v + f(l) u: u the direction, f the line, l the level at v."""
     ahead, behind = told_direction(direction)
     numbers = told(line)
-    if degree(numbers) > MOST_DEGREE:
-        raise TooMany("degree", MOST_DEGREE)
+    refuse_poly_degree(counted_degree(numbers))
     moved = poly_in_line(numbers, level(direction))
     return Change(Poly.x() + moved.scaled(ahead), Poly.y() + moved.scaled(behind))
