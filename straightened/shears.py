@@ -35,12 +35,24 @@ def told_direction(direction):
     return told_point(direction)
 
 
+def told_shear(value):
+    """The shear with its direction and its line told."""
+    return told_direction(value[0]), told(value[1])
+
+
 def level(direction):
     """The level of the direction: x, or y - r x."""
     ahead, behind = told_direction(direction)
     if ahead.sign == 0:
         return Poly.x()
     return Poly.y() - Poly.x().scaled(behind)
+
+
+def level_at(direction, point):
+    """What the level of the told direction is worth at the told point."""
+    if direction[0].sign == 0:
+        return point[0]
+    return point[1] - direction[1] * point[0]
 
 
 def direction_of(point):

@@ -56,13 +56,18 @@ def own_step(change):
     """The own step of the change, told; None if there is none."""
     if change.degree < 2:
         return None
-    place = 0 if change.first.degree >= change.second.degree else 1
+    place = place_to_lead(change)
     half, other = halves_by(change, place)
     if other.degree < 1 or half.degree % other.degree != 0:
         return None
     many = half.degree // other.degree
     number = power_multiple(head(half), head(other), many)
     return None if number is None else (place, number, many)
+
+
+def place_to_lead(change):
+    """The place of the half that is to be led: the first one if both degrees are alike."""
+    return 0 if change.first.degree >= change.second.degree else 1
 
 
 def halves_by(change, place):

@@ -7,6 +7,8 @@ from straightened.changes import Change
 from straightened.errors import TooMany
 from straightened.polys import Poly
 from straightened.ratios import Ratio
+from straightened.shears import shear
+from straightened.straights import straight
 
 
 class Thing:
@@ -61,6 +63,62 @@ def not_changes():
 def not_many():
     """What is no INTEGER from 1 to 18."""
     return not_counts() + [0, 19, 36, 10 ** 40]
+
+
+def not_steps():
+    found = [(wrong, 1, 2) for wrong in not_numbers() + [2, -1, 18, Ratio(0), Ratio(1), 10 ** 30 + 57]]
+    found += [(0, wrong, 2) for wrong in not_numbers() + [0, Ratio(0)]]
+    found += [(1, 1, wrong) for wrong in not_many()]
+    found += [(), (0,), (0, 1), (0, 1, 2, 3), [0, 1, 2], "012", (True, 1, 1), (False, 1, 1), (0, True, 1), (0, 1, True)]
+    return not_lists() + found
+
+
+def flat_and_bent():
+    """Changes that are not straight: some of a degree of at most 1, some of a greater one."""
+    x, y, number = Poly.x(), Poly.y(), Poly.number
+    return [
+        Change(Poly(), Poly()), Change(number(1), number(2)), Change(x, x), Change(x, number(5)), Change(Poly(), y),
+        Change(x + y, (x + y).scaled(2) + number(1)), Change(x + y * y, y), Change(x, x * y), Change(x * x, Poly()),
+    ]
+
+
+def not_shears():
+    found = [(wrong, [0, 0, 1]) for wrong in not_directions()] + [((0, 1), wrong) for wrong in not_lines()]
+    unfit = [[], [0, 0], [0, 0, 0], [1, 0, 1], [0, 1, 1], [0] * 19 + [1], [5, 0, 0], (0, Ratio(1, 2), 1)]
+    found += [((1, 2), line) for line in unfit]
+    found += [[(0, 1), [0, 0, 1]], ((0, 1),), ((0, 1), [0, 0, 1], 1), (0, 1, [0, 0, 1]), ((0, 1), [0, 0, True])]
+    return not_lists() + found
+
+
+def not_words():
+    same, up, along = Change.same(), ((0, 1), [0, 0, 1]), ((1, 0), [0, 0, 1])
+    found = [(wrong, [up]) for wrong in not_changes() + flat_and_bent()]
+    found += [(same, wrong) for wrong in not_lists()] + [(same, [up, wrong]) for wrong in not_shears()]
+    found += [(same, [wrong]) for wrong in not_shears()[::7]]
+    found += [
+        (same, [up, up]), (same, [((1, 2), [0, 0, 1]), ((Ratio(1), Ratio(2)), (0, 0, 0, 5))]),
+        (same, [along, up, ((0, Ratio(1)), [0, 0, 2])]), (same, [up, along] * 12 + [up]),
+        (same, [along, up, up, along]), [same, [up]], (same, []) + (1,), (same,), (), ([up], same), (same, up),
+        (same, [same]), ((same, [up]), []), same, up, [up],
+    ]
+    return not_lists() + found
+
+
+def not_half_steps():
+    found = [(wrong, 1, 2) for wrong in strange() + [0, 1, "z", "X", "xy", "", ["x"], ("y",), Poly.x(), Ratio(1)]]
+    found += [("x", wrong, 2) for wrong in not_numbers() + [0, Ratio(0)]]
+    found += [("y", 1, wrong) for wrong in not_many()]
+    return not_lists() + found + [(), ("x",), ("x", 1), ("x", 1, 2, 3), ["x", 1, 2], "x12", ("y", True, 1), ("y", 1, True)]
+
+
+def not_threads():
+    found = [(wrong, [0, 1]) for wrong in not_lines()] + [([0, 1], wrong) for wrong in not_lines()]
+    found += [
+        ([], []), ([0], [0]), ([1], [2, 0]), ((5,), ()), ([0] * 31, [3]), ([0] * 19 + [1], [0, 1]),
+        ([0, 1], [0] * 19 + [1]), ([0, 1], [0] * 30 + [1]), [[0, 1], [1]], ([0, 1],), ([0, 1], [1], [2]), (),
+        ([0, True], [1]), ([0, 1], [False]), ([0, 1], [0, 0, True]),
+    ]
+    return not_lists() + found
 
 
 class Draw:
@@ -119,6 +177,60 @@ class Draw:
     def direction(self):
         return (0, 1) if self.below(4) == 0 else (1, self.number())
 
+    def straight(self):
+        return straight(self.rows(), self.point())
+
+    def shear(self, most=4):
+        """A shear, its line of a degree from 2 to this, a list or a tuple, perhaps with noughts at its end."""
+        line = [0, 0] + [self.number(3) for _ in range(self.below(most - 1))] + [self.but_nought(3)]
+        line = line + [0, Ratio(0)][:self.below(3)]
+        return self.direction(), line if self.below(2) else tuple(line)
+
+    def word(self, many, most=4):
+        """A word with so many shears."""
+        shears = []
+        while len(shears) < many:
+            item = self.shear(most)
+            if not shears or pair(shears[-1][0]) != pair(item[0]):
+                shears.append(item)
+        return self.straight(), shears if self.below(2) else tuple(shears)
+
+    def row(self, many, most=3):
+        """A row of straight changes and shears, few of whose directions are unlike, so that some of them meet."""
+        found = []
+        for _ in range(many):
+            if self.below(3) == 0:
+                found.append(straight([[self.but_nought(2), 0], [0, self.but_nought(2)]], self.point()))
+            else:
+                found.append(((0, 1) if self.below(2) else (1, 0), self.shear(most)[1]))
+        return found
+
+    def thread(self, most):
+        """A thread of lines of a degree of at most this."""
+        while True:
+            found = self.line(most + 1), self.line(most + 1)
+            if max(len(fractions(found[0])), len(fractions(found[1]))) > 1:
+                return found
+
+
+def drawn_steps(seed, many, most=3):
+    draw = Draw(seed)
+    return [(draw.below(2), draw.but_nought(), 1 + draw.below(most)) for _ in range(many)]
+
+
+def undoable(seed, many):
+    """Changes that can be undone: a straight one, led on by shears along unlike directions."""
+    draw = Draw(seed)
+    found = []
+    for _ in range(many):
+        change = straight(draw.rows(), draw.point())
+        while change.degree <= 6:
+            longest = min(3, 18 // change.degree)
+            line = [0, 0] + [draw.but_nought(3) for _ in range(longest - 1)]
+            change = shear(draw.direction(), line).behind(change)
+        found.append(change)
+    return found
+
 
 def fraction(number):
     """The number in Python's own kind of fractions."""
@@ -136,6 +248,42 @@ def fractions(line):
 def amounts(poly):
     """The Poly's amounts by both powers, in Python's own fractions."""
     return {(i, j): fraction(amount) for i, j, amount in poly.entries()}
+
+
+def pair(value):
+    """A point or a direction in Python's own fractions."""
+    return fraction(value[0]), fraction(value[1])
+
+
+def slow_line_worth(line, number):
+    return sum([fraction(one) * number ** power for power, one in enumerate(line)], Fraction(0))
+
+
+def slow_change_at(change, point):
+    """Where the change leads a point of Python's own fractions."""
+    return tuple([slow_worth(amounts(half), point[0], point[1]) for half in (change.first, change.second)])
+
+
+def slow_row_at(items, point):
+    """Where a row of changes and shears leads a point: what stands last is done first."""
+    point = pair(point)
+    for item in list(items)[::-1]:
+        if isinstance(item, Change):
+            point = slow_change_at(item, point)
+        else:
+            (ahead, behind), line = pair(item[0]), item[1]
+            length = slow_line_worth(line, point[1] - behind * point[0] if ahead else point[0])
+            point = (point[0] + length * ahead, point[1] + length * behind)
+    return point
+
+
+def items_of(word):
+    """The word as a row."""
+    return [word[0]] + list(word[1])
+
+
+def slow_word_at(word, point):
+    return slow_row_at(items_of(word), point)
 
 
 def without_noughts(table):
@@ -180,7 +328,7 @@ def slow_worth(table, x, y):
 class Case(unittest.TestCase):
     """Asks for errors with their attributes, and that nothing passed is changed."""
 
-    def refused(self, error, attributes, function, *values, **named):
+    def refused(self, error, attributes, function, /, *values, **named):
         """The call raises just this error, its attributes are these, and what was passed stays as it was."""
         kept = repr((values, named))
         with self.assertRaises(error) as caught:
@@ -191,10 +339,10 @@ class Case(unittest.TestCase):
             self.assert_alike(getattr(caught.exception, name), attributes[name])
         self.assertEqual(repr((values, named)), kept)
 
-    def refused_value(self, error, value, function, *values, **named):
+    def refused_value(self, error, value, function, /, *values, **named):
         self.refused(error, {"value": value}, function, *values, **named)
 
-    def refused_degree(self, limit, function, *values, **named):
+    def refused_degree(self, limit, function, /, *values, **named):
         self.refused(TooMany, {"what": "degree", "limit": limit}, function, *values, **named)
 
     def assert_alike(self, one, two):
@@ -232,3 +380,31 @@ class Case(unittest.TestCase):
         self.assertEqual(len(found), 2)
         for number, other in zip(found, wanted):
             self.assert_ratio(number, other)
+
+    def assert_shear(self, found, direction, line):
+        """A told shear with this direction and this line."""
+        self.assertIs(found.__class__, tuple)
+        self.assertEqual(len(found), 2)
+        self.assert_pair(found[0], direction)
+        self.assert_line(found[1], line)
+
+    def assert_word(self, found, wanted):
+        """A told word that says the same as the other one, by whatever numbers that is written."""
+        self.assertIs(found.__class__, tuple)
+        self.assertEqual(len(found), 2)
+        self.assertIs(found[0].__class__, Change)
+        self.assertIs(found[1].__class__, list)
+        self.assertEqual(found[0], wanted[0])
+        self.assertEqual(len(found[1]), len(wanted[1]))
+        for item, (direction, line) in zip(found[1], wanted[1]):
+            self.assert_shear(item, direction, line)
+
+    def assert_thread(self, found, wanted):
+        """A tuple of two told lines of these numbers."""
+        self.assertIs(found.__class__, tuple)
+        self.assertEqual(len(found), 2)
+        self.assert_line(found[0], wanted[0])
+        self.assert_line(found[1], wanted[1])
+
+    def refused_shears(self, function, /, *values, **named):
+        self.refused(TooMany, {"what": "shears", "limit": 24}, function, *values, **named)

@@ -41,6 +41,20 @@ FUNCTIONS = {
         "led_direction": ["change", "direction"], "keeps": ["change", "direction"], "shear": ["direction", "line"],
     },
     "steps": {"is_step": ["value"], "taken": ["change", "step"], "own_steps": ["change"], "led": ["change"]},
+    "stops": {
+        "stop": ["change"], "can_be_undone": ["change"], "is_steps": ["change", "value"], "is_stop": ["change", "value"],
+    },
+    "undoing": {
+        "undone": ["change"], "undone_at": ["change", "point"], "uneven": ["change"], "is_uneven": ["change", "value"],
+    },
+    "words": {
+        "is_word": ["value"], "degree_of": ["word"], "word_change": ["word"], "word_at": ["word", "point"],
+        "word_of": ["change"], "same_word": ["word", "other"],
+    },
+    "handed": {
+        "handed": ["change", "shear"], "joined": ["items"], "behind_word": ["word", "other"], "undone_word": ["word"],
+    },
+    "turned": {"turned": ["word"], "is_least": ["word"], "least": ["word"]},
 }
 
 METHODS = {
@@ -157,7 +171,14 @@ class ExamplesTest(Case):
     def test_the_readme(self):
         with open(os.path.join(ROOT, "README.md"), encoding="utf-8") as held:
             rows = held.read().split("```")
+        self.run_examples("README.md", "".join(rows[1::2]), 3)
+
+    def test_the_examples_from_stops_to_turned(self):
+        with open(os.path.join(ROOT, "tests", "examples.txt"), encoding="utf-8") as held:
+            self.run_examples("examples.txt", held.read(), 20)
+
+    def run_examples(self, name, text, least):
         parser, runner = doctest.DocTestParser(), doctest.DocTestRunner(verbose=False)
-        examples = parser.get_doctest("".join(rows[1::2]), {}, "README.md", "README.md", 0)
-        self.assertGreater(len(examples.examples), 3)
+        examples = parser.get_doctest(text, {}, name, name, 0)
+        self.assertGreater(len(examples.examples), least)
         self.assertEqual(runner.run(examples).failed, 0)

@@ -6,9 +6,9 @@ from straightened.polys import Poly
 from straightened.ratios import Ratio
 from straightened.shears import shear
 from straightened.steps import is_step, led, own_steps, taken
-from straightened.straights import is_straight, straight
+from straightened.straights import is_straight
 from tests.helpers import (
-    Case, Draw, amounts, fraction, not_changes, not_lists, not_many, not_numbers, slow_power, slow_sum,
+    Case, Draw, amounts, drawn_steps, fraction, not_changes, not_steps, slow_power, slow_sum, undoable,
 )
 
 X, Y = Poly.x(), Poly.y()
@@ -18,19 +18,6 @@ LARGE = 10 ** 30 + 57
 
 def product(i, j, amount=1):
     return Poly([(i, j, amount)])
-
-
-def not_steps():
-    found = [(wrong, 1, 2) for wrong in not_numbers() + [2, -1, 18, Ratio(0), Ratio(1), LARGE]]
-    found += [(0, wrong, 2) for wrong in not_numbers() + [0, Ratio(0)]]
-    found += [(1, 1, wrong) for wrong in not_many()]
-    found += [(), (0,), (0, 1), (0, 1, 2, 3), [0, 1, 2], "012", (True, 1, 1), (False, 1, 1), (0, True, 1), (0, 1, True)]
-    return not_lists() + found
-
-
-def drawn_steps(seed, many, most=3):
-    draw = Draw(seed)
-    return [(draw.below(2), draw.but_nought(), 1 + draw.below(most)) for _ in range(many)]
 
 
 def slow_taken(change, step):
@@ -60,20 +47,6 @@ def slow_own_step(change):
     if number == 0 or slow_degree(slow_sum(halves[place], raised, -number)) >= degrees[place]:
         return None
     return place, number, many
-
-
-def undoable(seed, many):
-    """Changes that can be undone: a straight one, led on by shears along unlike directions."""
-    draw = Draw(seed)
-    found = []
-    for _ in range(many):
-        change = straight(draw.rows(), draw.point())
-        while change.degree <= 6:
-            longest = min(3, 18 // change.degree)
-            line = [0, 0] + [draw.but_nought(3) for _ in range(longest - 1)]
-            change = shear(draw.direction(), line).behind(change)
-        found.append(change)
-    return found
 
 
 class IsStepTest(Case):
