@@ -55,6 +55,25 @@ FUNCTIONS = {
         "handed": ["change", "shear"], "joined": ["items"], "behind_word": ["word", "other"], "undone_word": ["word"],
     },
     "turned": {"turned": ["word"], "is_least": ["word"], "least": ["word"]},
+    "rounds": {
+        "round_of": ["word", "many"], "round_degrees": ["word", "many"], "pace": ["word"], "row": ["word"],
+        "home": ["word"], "is_led": ["word", "other", "by"], "is_unlike": ["word", "other"],
+    },
+    "edges": {"binomial_edge": ["poly", "letter"], "is_half_step": ["value"]},
+    "halves": {
+        "half_put": ["poly", "step"], "own_half_steps": ["poly"], "half_led": ["poly"], "half_stop": ["poly"],
+        "is_half": ["poly"], "is_half_steps": ["poly", "value"], "is_half_stop": ["poly", "value"],
+    },
+    "partners": {
+        "partner": ["poly"], "is_partner": ["poly", "value"], "partner_parts": ["poly", "one", "two"],
+        "unity": ["poly"], "is_unity": ["poly", "value"],
+    },
+    "threads": {
+        "is_thread": ["value"], "thread_at": ["thread", "number"], "thread_taken": ["thread", "step"],
+        "thread_steps": ["thread"], "thread_led": ["thread"], "thread_stop": ["thread"], "is_straightened": ["thread"],
+        "is_thread_steps": ["thread", "value"], "is_thread_stop": ["thread", "value"],
+        "changed_thread": ["change", "thread"],
+    },
 }
 
 METHODS = {
@@ -173,9 +192,9 @@ class ExamplesTest(Case):
             rows = held.read().split("```")
         self.run_examples("README.md", "".join(rows[1::2]), 3)
 
-    def test_the_examples_from_stops_to_turned(self):
+    def test_the_examples_from_stops_to_threads(self):
         with open(os.path.join(ROOT, "tests", "examples.txt"), encoding="utf-8") as held:
-            self.run_examples("examples.txt", held.read(), 20)
+            self.run_examples("examples.txt", held.read(), 35)
 
     def run_examples(self, name, text, least):
         parser, runner = doctest.DocTestParser(), doctest.DocTestRunner(verbose=False)
