@@ -73,7 +73,11 @@ def thread_walked_down(thread):
 
 def own_thread_step(lines):
     """The own step of the told thread; None if there is none."""
-    place = 0 if degree(lines[0]) >= degree(lines[1]) else 1
+    return thread_step_at(lines, 0 if degree(lines[0]) >= degree(lines[1]) else 1)
+
+
+def thread_step_at(lines, place):
+    """The step at this place with which the degree there falls; None if there is none."""
     line, other = lines[place], lines[1 - place]
     if degree(other) < 1 or degree(line) % degree(other) != 0:
         return None

@@ -9,6 +9,7 @@ from straightened.polys import Poly
 from straightened.ratios import Ratio
 from straightened.shears import shear
 from straightened.straights import straight
+from straightened.threads import changed_thread
 
 
 class Thing:
@@ -323,6 +324,87 @@ def slow_put(table, first, second):
 
 def slow_worth(table, x, y):
     return sum([table[(i, j)] * x ** i * y ** j for i, j in table], Fraction(0))
+
+
+def slow_line_sum(one, two, factor=1):
+    """Of two lines of Python's own fractions: the one, and factor times the other one."""
+    longest = max(len(one), len(two))
+    ahead, behind = [line + [Fraction(0)] * (longest - len(line)) for line in (one, two)]
+    return fractions([number + factor * other for number, other in zip(ahead, behind)])
+
+
+def slow_line_product(one, two):
+    found = [Fraction(0)] * (len(one) + len(two))
+    for power, number in enumerate(one):
+        for more, other in enumerate(two):
+            found[power + more] += number * other
+    return fractions(found)
+
+
+def slow_line_put(line, other):
+    """The line with the other one for t, in Python's own fractions, of whatever degree."""
+    found = []
+    for number in fractions(line)[::-1]:
+        found = slow_line_sum(slow_line_product(found, fractions(other)), [number])
+    return found
+
+
+def slow_along(poly, thread):
+    """The Poly along both lines, in Python's own fractions, of whatever degree."""
+    table, (first, second) = amounts(poly), [fractions(line) for line in thread]
+    found = []
+    for i in range(18, -1, -1):
+        inner = []
+        for j in range(18 - i, -1, -1):
+            inner = slow_line_sum(slow_line_product(inner, second), [table.get((i, j), Fraction(0))])
+        found = slow_line_sum(slow_line_product(found, first), inner)
+    return found
+
+
+def slow_determinant(rows, plus, times, none, one):
+    """The determinant by the first row's entries, each times what is left without its row and column."""
+    if not rows:
+        return one
+    found = none
+    for at, entry in enumerate(rows[0]):
+        if entry != none:
+            left = slow_determinant([row[:at] + row[at + 1:] for row in rows[1:]], plus, times, none, one)
+            found = plus(found, times(entry, left), -1 if at % 2 else 1)
+    return found
+
+
+def slow_degree(line):
+    return len(fractions(line)) - 1
+
+
+STRAIGHT_THREADS = [
+    ([0, 1], []), ([7], [0, 3]), ([5, Ratio(1, 2)], (0, 0)), ([], [1, -1]), ((0, 4, 0), [3, 0, 0]), ([1, 2], [3, -4]),
+]
+CROSSED_THREADS = [
+    ([0, 0, 1], [0, 0, 0, 1]), ([0, 0, 1], [5]), ([], [0, 0, 0, 1]), ([-1, 0, 1], [0, -1, 0, 1]), ([0, 0, 1], [0, 0, 2]),
+    ([0, 0, 1], [0, 0, 0, 0, 1]), ([1, 2, 2], [0, 0, 3, 6, 3]), ([0, -3, 0, 1], [0, 0, 1]),
+]
+
+
+def bent_threads(seed, many, threads, limit=18):
+    """Tuples of a thread to which a drawn change that can be undone leads one of these threads, and of this change."""
+    draw, found = Draw(seed), []
+    for change in undoable(seed + 1, many):
+        thread = threads[draw.below(len(threads))]
+        if change.degree * max(slow_degree(thread[0]), slow_degree(thread[1])) <= limit:
+            found.append((changed_thread(change, thread), change))
+    return found
+
+
+def longest_digits(value):
+    """The most digits above or below a stroke of a number anywhere in the value."""
+    if isinstance(value, Ratio):
+        return max(len(str(abs(value.top))), len(str(value.bottom)))
+    if isinstance(value, Poly):
+        return longest_digits([entry[2] for entry in value.entries()])
+    if isinstance(value, Change):
+        return max(longest_digits(value.first), longest_digits(value.second))
+    return max([longest_digits(part) for part in value if not isinstance(part, (int, str))] or [0])
 
 
 class Case(unittest.TestCase):

@@ -74,6 +74,23 @@ FUNCTIONS = {
         "is_thread_steps": ["thread", "value"], "is_thread_stop": ["thread", "value"],
         "changed_thread": ["change", "thread"],
     },
+    "laid": {
+        "straightener": ["thread"], "is_straightener": ["thread", "value"], "back": ["thread"],
+        "is_back": ["thread", "value"],
+    },
+    "crossings": {
+        "quotient": ["line"], "crossing_line": ["thread"], "is_crossing": ["thread", "value"],
+        "sum_degrees": ["thread", "many"],
+    },
+    "equations": {"equation": ["thread"], "is_on": ["poly", "thread"], "trace": ["thread"]},
+    "walked": {
+        "through": ["line", "other"], "inner": ["thread"], "outer": ["thread"], "walked": ["thread"],
+        "is_through": ["thread", "value"],
+    },
+    "levels": {
+        "level_thread": ["poly", "number"], "is_level_thread": ["poly", "number", "value"],
+        "leading_change": ["thread", "other"], "is_leading": ["thread", "other", "value"],
+    },
 }
 
 METHODS = {
@@ -192,7 +209,7 @@ class ExamplesTest(Case):
             rows = held.read().split("```")
         self.run_examples("README.md", "".join(rows[1::2]), 3)
 
-    def test_the_examples_from_stops_to_threads(self):
+    def test_the_examples_from_stops_on(self):
         with open(os.path.join(ROOT, "tests", "examples.txt"), encoding="utf-8") as held:
             self.run_examples("examples.txt", held.read(), 35)
 

@@ -19,15 +19,16 @@ BUILTINS = (
 ).split()
 LIBRARY = {"math": ["gcd", "lcm", "isqrt", "comb", "perm", "factorial"]}
 METHODS = (
-    "__init__ __eq__ __repr__ __str__ __len__ __add__ __radd__ __sub__ __rsub__ __mul__ __rmul__ __neg__"
+    "__init__ __eq__ __repr__ __str__ __len__ __add__ __radd__ __sub__ __rsub__ __mul__ __rmul__ __neg__ __contains__ "
+    "__getitem__ __iter__ __call__ __enter__ __exit__"
 ).split()
 BARRED = (
     "typing typing_extensions enum Enum IntEnum StrEnum Flag IntFlag Generic Protocol ABC ABCMeta namedtuple NamedTuple "
     "TypedDict TYPE_CHECKING abstractmethod"
 ).split()
 NOT_LET = (
-    ast.GeneratorExp, ast.Lambda, ast.Global, ast.Nonlocal, ast.Yield, ast.YieldFrom, ast.With, ast.Match, ast.Set,
-    ast.SetComp, ast.NamedExpr, ast.AsyncFunctionDef, ast.Await, ast.Starred, ast.AnnAssign, ast.Delete,
+    ast.GeneratorExp, ast.Lambda, ast.Global, ast.Nonlocal, ast.Yield, ast.YieldFrom, ast.Set, ast.SetComp,
+    ast.NamedExpr, ast.AsyncFunctionDef, ast.Await, ast.AnnAssign,
 )
 
 
@@ -110,9 +111,27 @@ class FilesTest(unittest.TestCase):
                 is_docstring = at == 0 and isinstance(node, ast.Expr) and isinstance(node.value, ast.Constant)
                 self.assertTrue(is_docstring or isinstance(node, let), (file, node.lineno))
                 if isinstance(node, ast.Assign):
-                    self.assertIsInstance(node.value, ast.Constant)
+                    self.assertEqual(len(node.targets), 1)
+                    self.check_plain(node.value, [part.name for part in tree.body[:at] if isinstance(part, ast.FunctionDef)])
             names = bound_at_top(tree) + imported(tree)
             self.assertEqual(len(names), len(set(names)), file)
+
+    def check_plain(self, value, functions_above):
+        """A number or a string, a dict of such and of functions above, or a tuple of such and of tuples."""
+        if isinstance(value, ast.Dict):
+            for key in value.keys:
+                self.assertIsInstance(key, ast.Constant)
+            for part in value.values:
+                if isinstance(part, ast.Name):
+                    self.assertIn(part.id, functions_above)
+                else:
+                    self.assertIsInstance(part, ast.Constant)
+        elif isinstance(value, ast.Tuple):
+            for part in value.elts:
+                self.assertIsInstance(part, (ast.Constant, ast.Tuple))
+                self.check_plain(part, [])
+        else:
+            self.assertIsInstance(value, ast.Constant)
 
     def test_imports(self):
         behind = {}
@@ -147,12 +166,36 @@ class FilesTest(unittest.TestCase):
                 self.assertNotIsInstance(node, NOT_LET, (file, getattr(node, "lineno", 0)))
                 if isinstance(node, ast.BinOp):
                     self.assertNotIsInstance(node.op, (ast.Div, ast.Pow, ast.MatMult))
+                if isinstance(node, ast.Delete):
+                    self.assertEqual([part for part in node.targets if not isinstance(part, ast.Subscript)], [])
+                if isinstance(node, ast.Match):
+                    self.check_match(node)
+                if isinstance(node, ast.ExceptHandler):
+                    self.check_handler(file, node)
+                if isinstance(node, ast.Raise):
+                    self.assertIsInstance(node.exc, ast.Call)
+                    self.assertRegex(node.exc.func.id, "^[A-Z]")
                 if isinstance(node, ast.AugAssign):
                     self.assertIsInstance(node.target, ast.Name)
                     self.assertIsInstance(node.value, ast.Constant)
                     self.assertIs(node.value.value.__class__, int)
                 if isinstance(node, ast.Constant):
                     self.assertNotIsInstance(node.value, (float, complex, bytes))
+
+    def check_match(self, node):
+        """Strings are told apart, and what takes everything stands last."""
+        for case in node.cases[:-1]:
+            self.assertIsInstance(case.pattern, ast.MatchValue)
+            self.assertIsInstance(case.pattern.value, ast.Constant)
+            self.assertIsNone(case.guard)
+        self.assertEqual(ast.dump(node.cases[-1].pattern), "MatchAs()")
+
+    def check_handler(self, file, node):
+        """Only errors of the package are caught, by their names."""
+        caught = node.type.elts if isinstance(node.type, ast.Tuple) else [node.type]
+        for name in caught:
+            self.assertIn(name.id, bound_at_top(tree_of("errors.py")), file)
+            self.assertIn(name.id, imported(tree_of(file)), file)
 
     def test_strings(self):
         for file, tree in self.each():
@@ -194,5 +237,26 @@ class FilesTest(unittest.TestCase):
         if node.name.startswith("__"):
             self.assertIn(node.name, METHODS)
         self.assertEqual([part for part in ast.walk(node) if isinstance(part, ast.FunctionDef)], [node])
-        self.assertIsNone(node.args.vararg)
+        if node.args.vararg is not None:
+            self.assertIn(node.name, ("do_all", "attempt"))
         self.assertIsNone(node.args.kwarg)
+        self.assertEqual(node.args.kwonlyargs + node.args.posonlyargs, [])
+
+    def test_what_can_be_indexed_is_not_iterated_over(self):
+        for file, tree in self.each():
+            for node in ast.walk(tree):
+                if isinstance(node, ast.ClassDef):
+                    names = [part.name for part in node.body if isinstance(part, ast.FunctionDef)]
+                    if "__getitem__" in names:
+                        self.assertIn("__iter__", names)
+                    if "__iter__" in names:
+                        told = node.body[[getattr(part, "name", "") for part in node.body].index("__iter__")]
+                        self.assertIsInstance(told.body[0], ast.Raise, file)
+
+    def test_exits_only_assign(self):
+        for file, tree in self.each():
+            for node in functions(tree):
+                if node.name == "__exit__":
+                    for part in node.body:
+                        self.assertIsInstance(part, ast.Assign, file)
+                        self.assertIsInstance(part.value, ast.Attribute, file)
