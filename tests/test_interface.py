@@ -91,6 +91,14 @@ FUNCTIONS = {
         "level_thread": ["poly", "number"], "is_level_thread": ["poly", "number", "value"],
         "leading_change": ["thread", "other"], "is_leading": ["thread", "other", "value"],
     },
+    "texts": {"written": ["thing"]},
+    "forms": {"read": ["text"]},
+    "claims": {
+        "words": [], "is_claim": ["value"], "is_true": ["claim"], "contrary": ["claim"], "paper_of": ["claim"],
+        "is_paper_of": ["claim", "value"],
+    },
+    "commands": {"is_name": ["value"], "is_command": ["value"], "is_deed": ["value"]},
+    "desk": {"tried": ["desk", "action"]},
 }
 
 METHODS = {
@@ -111,12 +119,20 @@ METHODS = {
         "__init__": ["self", "first", "second"], "behind": ["self", "other"], "at": ["self", "point"], "same": [],
         "__eq__": None, "__repr__": None,
     },
+    ("desk", "Desk"): {
+        "__init__": ["self"], "claim_of": ["self", "label"], "do": ["self", "command"], "do_all": ["self", "commands"],
+        "attempt": ["self", "commands"], "attach": ["self", "label", "paper"], "fits": ["self", "label"], "lines": ["self"],
+        "copy": ["self"], "again": ["lines"], "__len__": None, "__getitem__": None, "__contains__": None,
+        "__call__": ["self", "command"],
+    },
+    ("desk", "Trial"): {"__init__": ["self", "desk"], "__enter__": None, "__exit__": None},
 }
 
 PROPERTIES = {
     ("ratios", "Ratio"): ["top", "bottom", "sign", "is_whole"],
     ("polys", "Poly"): ["degree", "is_nought"],
     ("changes", "Change"): ["first", "second", "degree"],
+    ("desk", "Desk"): ["names", "labels"],
 }
 
 
