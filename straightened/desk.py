@@ -179,7 +179,7 @@ def check_names(held, word, values):
         if kind == "fresh" and value in held.claims:
             raise LabelTaken(value)
     for kind, value in told:
-        wanted = kind_of_claim(values[1]) if word == "claim" and kind == "name" else kind
+        wanted = kind_of_claim(values[1]) if word == "claim" else kind
         if is_thing_kind(kind) and not is_kept(held, wanted, value):
             raise UnknownName(value)
     for kind, value in told:

@@ -19,7 +19,7 @@ def read(text):
     if not isinstance(text, str):
         raise InvalidText(0)
     rows = text.split("\n")
-    if len(rows) == 1 or rows[0] not in READERS:
+    if rows[0] not in READERS:
         raise InvalidText(1)
     reader = READERS[rows[0]]
     # What stands behind the last line feed is no line that a written form has.

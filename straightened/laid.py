@@ -131,9 +131,7 @@ def whole_sum(ahead, behind):
 
 
 def whole_times(ahead, behind):
-    """The product of two lines of INTEGERS."""
-    if not ahead or not behind:
-        return []
+    """The product of two lines of INTEGERS, perhaps with noughts at its end."""
     found = [0 for _ in range(len(ahead) + len(behind) - 1)]
     for power, number in enumerate(ahead):
         for more, other in enumerate(behind):

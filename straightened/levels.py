@@ -4,7 +4,7 @@ from straightened.changes import Change
 from straightened.errors import NotHalf
 from straightened.halves import put_down
 from straightened.laid import along_told, straightener
-from straightened.lines import told
+from straightened.lines import degree, put_in, told
 from straightened.polys import check_poly
 from straightened.ratios import as_ratio
 from straightened.stops import can_be_undone
@@ -19,20 +19,30 @@ def level_thread(poly, number):
     steps, left = put_down(poly)
     if left.degree != 1:
         raise NotHalf()
-    # The letter that the last step leaves is t: other threads would be told by numbers that grow far longer.
-    thread = straight_level(left, height, "y" if steps and steps[-1][0] == "x" else "x")
+    thread = straight_level(left, height)
     for letter, factor, many in steps[::-1]:
         thread = thread_taken(thread, (0 if letter == "x" else 1, factor, many))
-    return thread
+    return centred(thread)
 
 
-def straight_level(poly, height, letter):
-    """A thread on which the Poly, of degree 1, has this worth; t is the letter, unless the other one stands alone."""
+def straight_level(poly, height):
+    """A thread on which the Poly, of degree 1, has this worth."""
     at_x, at_y = poly.amount(1, 0), poly.amount(0, 1)
     rest = height - poly.amount(0, 0)
-    if at_y.sign == 0 or (letter == "y" and at_x.sign != 0):
-        return told([rest.over(at_x), -at_y.over(at_x)]), told([0, 1])
-    return told([0, 1]), told([rest.over(at_y), -at_x.over(at_y)])
+    # Along this direction, and no multiple of it, the numbers of what the steps make of it stay short.
+    if at_x.sign == 0:
+        return told([0, -at_y]), told([rest.over(at_y)])
+    return told([rest.over(at_x), -at_y]), told([0, at_x])
+
+
+def centred(lines):
+    """The told thread, t moved such that its line of the greater degree lacks the power below the highest one."""
+    # What the steps leave at the lower powers is made of numbers that grow far longer; so most of it goes.
+    line = lines[0] if degree(lines[0]) >= degree(lines[1]) else lines[1]
+    if degree(line) < 2:
+        return lines
+    moved = [-line[-2].over(line[-1] * degree(line)), 1]
+    return put_in(lines[0], moved), put_in(lines[1], moved)
 
 
 def is_level_thread(poly, number, value):

@@ -35,8 +35,6 @@ def place_of_row(rows):
 
 def row_below(row, head):
     """The row behind its first number, less the multiple of the head that takes this away."""
-    if row[0].sign == 0:
-        return row[1:]
     factor = row[0].over(head[0])
     return [row[at] - factor * head[at] for at in range(1, len(row))]
 

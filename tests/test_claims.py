@@ -21,7 +21,7 @@ from straightened.threads import is_straightened, told_thread
 from straightened.turned import is_least, least
 from straightened.undoing import is_uneven, uneven
 from straightened.walked import inner, outer, walked
-from straightened.words import told_word
+from straightened.words import told_word, word_at
 from tests.helpers import (
     Case, CROSSED_THREADS, Draw, STRAIGHT_THREADS, bent_threads, longest_digits, not_changes, not_lines, not_numbers,
     not_points, not_polys, not_threads, not_words, pair, slow_degree, slow_word_at, strange, undoable,
@@ -426,7 +426,20 @@ class PapersOfWordsTest(PaperCase):
             told = tuple([Ratio(1) * number for number in point])
             found = is_surely_moved(told_word(word), many, told)
             self.assert_bool(found, self.moves(word, many, point))
+        # Points that stay, and others beside them, of words that are led to straight changes.
+        for many, core in ((1, linear(2, 0, 0, 3)), (2, linear(0, 1, 1, 0)), (3, linear(1, 1, 0, 1)), (2, linear(-1, 0, 2, Ratio(1, 3)))):
+            for shears in (1, 2, 3):
+                by = draw.word(shears, 3)
+                word = behind_word(undone_word(by), behind_word((core, []), by))
+                point = word_at(undone_word(by), (0, 0))
+                self.assert_bool(is_surely_moved(word, many, point), False)
+                for beside in ((point[0] + 1, point[1]), (point[0], point[1] - Ratio(1, 2))):
+                    self.assert_bool(is_surely_moved(word, many, beside), self.moves(word, many, beside))
         # What is a multiple of the prime below the stroke leaves no rest.
+        numbers = [0, 0, Ratio(1, PRIME), 1, Ratio(-1 - PRIME, PRIME)]
+        word = told_word((Change.same(), [((0, 1), numbers)]))
+        self.assert_bool(is_surely_moved(word, 1, (Ratio(1), Ratio(5))), False)
+        self.assert_bool(is_paper_of(("never", word), ("moves", [(1, 5)] * 5)), False)
         word = told_word((Change.same(), [((0, 1), [0, 0, Ratio(1, PRIME)])]))
         self.assert_bool(is_surely_moved(word, 1, (Ratio(1), Ratio(1))), False)
         self.assert_bool(is_paper_of(("never", word), ("moves", [(1, 1)] * 5)), True)

@@ -117,6 +117,9 @@ poly p 2,0
 poly p 2,0,1,1
 poly p 2, 0,1
 poly p 100,0,1
+poly p 0,100,1
+poly p 0,01,1
+poly p 1,x,1
 poly p 02,0,1
 poly p -1,0,1
 poly p 2,0,2/4

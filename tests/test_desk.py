@@ -167,6 +167,7 @@ class DeskTest(Case):
             ("poly p 0,2,1 1,0,1", "-"), ("poly n", "-"), ("poly q 0,1,1", "-"), ("show p", "0,2,1 1,0,1"), ("show n", "-"),
             ("degree n", "-1"), ("degree p", "2"), ("stop p", "-"), ("stop n", "number"), ("claim h half p", "h true"),
             ("claim g none n", "g true"), ("term p 1 1 3", "h false"), ("term p 1 1 0", "h true"), ("term p 5 5 0", "-"),
+            ("term p 9 9 -2", "h false"), ("show p", "0,2,1 1,0,1 9,9,-2"), ("undo", "term p 9 9 -2"),
             ("change c p q", "-"), ("change d n n", "-"), ("show d", "- by -"), ("show c", "0,2,1 1,0,1 by 0,1,1"),
             ("degree c", "2"), ("degree d", "-1"), ("stop c", "-"), ("stop d", "flat"), ("steps c", "0 1 2"), ("steps d", "-"),
             ("jacobian c", "0,0,1"), ("jacobian d", "-"), ("claim s steady c", "s true"), ("claim b stuck c", "b false"),

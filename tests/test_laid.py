@@ -106,6 +106,14 @@ class StraightenerTest(Case):
                 self.assert_bool(is_straightener(thread, shear((0, 1), [0, 0, 1]).behind(found)), False)
         self.assertGreater(max(degrees), 100)
 
+    def test_both_lines_tell(self):
+        for thread, value in (
+            (([0, 1], []), Change(X.scaled(2), Y)), (([0, 1], []), Change(X + NUMBER(1), Y)), (([0, 1], []), Change(X, Y + NUMBER(1))),
+            (([0, 1], []), Change(X, X + Y)), (([5], [0, 1]), Change(Y, X)), (([], [0, 1]), Change(Y.scaled(3), X)),
+        ):
+            self.assert_bool(is_straightener(thread, value), False)
+        self.assert_bool(is_straightener(([5], [0, 1]), Change(Y, X - NUMBER(5))), True)
+
     def test_changes_that_cannot_be_undone(self):
         for value in (Change(X, Poly()), Change(X, Y * Y), Change(X, X * Y), Change(X + X * Y, Y), Change(X + Y * X, Y * X)):
             self.assertEqual(slow_along(value.first, ([0, 1], [])), ONE_STEP)

@@ -241,7 +241,11 @@ class LeadingTest(Case):
             found = leading_change(thread, other)
             self.assertLessEqual(longest_digits(found), 2000)
             self.assert_bool(is_leading(thread, other, found), True)
-            self.assertLessEqual(longest_digits(level_thread(word_change((front, shears)).first, long_number())), 2000)
+            bent = word_change((front, shears))
+            ahead = straight([[long_number(), 3], [long_number(), long_number()]], (long_number(), long_number()))
+            for change in (bent, bent.behind(ahead)):
+                for poly in (change.first, change.second):
+                    self.assertLessEqual(longest_digits(level_thread(poly, long_number())), 2000)
 
     def test_wrong_values(self):
         for wrong in not_threads():
