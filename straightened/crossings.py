@@ -8,7 +8,7 @@ from straightened.errors import InvalidMany, NotApart, TooMany
 from straightened.lines import degree, derived, told, worth
 from straightened.polys import Poly, refuse_poly_degree
 from straightened.ratios import Ratio
-from straightened.tables import line_with_worths, shifted_row, table_determinant
+from straightened.tables import line_with_worths, shifted_determinant
 from straightened.threads import thread_at, told_thread
 
 MOST_CROSSED_DEGREE = 6
@@ -45,10 +45,7 @@ def refuse_crossed(lines):
 
 def crossing_worth(first, second, number):
     """What the crossing line of two told lines, both of degree 1 or more, is worth at the number."""
-    ahead, behind = quotient_numbers(first, number), quotient_numbers(second, number)
-    wide = len(ahead) + len(behind) - 2
-    rows = [shifted_row(ahead, at, wide) for at in range(len(behind) - 1)]
-    return table_determinant(rows + [shifted_row(behind, at, wide) for at in range(len(ahead) - 1)])
+    return shifted_determinant(quotient_numbers(first, number), quotient_numbers(second, number))
 
 
 def quotient_numbers(line, number):

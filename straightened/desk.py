@@ -22,8 +22,8 @@ class Held:
         self.claims = claims
         self.states = states
         self.papers = papers
-        # The deeds that can be taken back, and those that can be done again: tuples of the line, and of what
-        # was held ahead of taking that way.
+        # Tuples of a deed's line with what was held ahead of it, where it can be taken back, and with what was held
+        # behind it, where it can be done again.
         self.past = past
         self.coming = coming
 

@@ -2,10 +2,10 @@
 
 from straightened.errors import TooMany
 from straightened.laid import along_told
-from straightened.lines import counted_degree
+from straightened.lines import counted_degree, number_at
 from straightened.polys import check_poly
 from straightened.ratios import Ratio
-from straightened.tables import poly_with_worths, shifted_row, table_determinant
+from straightened.tables import poly_with_worths, shifted_determinant
 from straightened.threads import told_thread
 from straightened.walked import outer
 
@@ -28,16 +28,12 @@ def equation(thread):
 
 def equation_worth(first, second, point):
     """What the table of two told lines has as determinant at the point."""
-    ahead, behind = falling_less(first, point[0]), falling_less(second, point[1])
-    wide = len(ahead) + len(behind) - 2
-    rows = [shifted_row(ahead, at, wide) for at in range(len(behind) - 1)]
-    return table_determinant(rows + [shifted_row(behind, at, wide) for at in range(len(ahead) - 1)])
+    return shifted_determinant(falling_less(first, point[0]), falling_less(second, point[1]))
 
 
 def falling_less(line, number):
-    """The numbers of the told line less the number, by falling powers; one where the line has none."""
-    start = line[:1] if line else [Ratio(0)]
-    return line[:0:-1] + [start[0] - number]
+    """The numbers of the told line less the number, by falling powers; nought has one, too."""
+    return line[:0:-1] + [number_at(line, 0) - number]
 
 
 def is_on(poly, thread):

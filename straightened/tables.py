@@ -5,6 +5,13 @@ from straightened.polys import poly_of
 from straightened.ratios import Ratio
 
 
+def shifted_determinant(ahead, behind):
+    """The determinant of rows with the numbers ahead, then of rows with those behind, each one place further."""
+    wide = len(ahead) + len(behind) - 2
+    rows = [shifted_row(ahead, at, wide) for at in range(len(behind) - 1)]
+    return table_determinant(rows + [shifted_row(behind, at, wide) for at in range(len(ahead) - 1)])
+
+
 def shifted_row(numbers, ahead, wide):
     """The numbers with so many noughts ahead, and behind them as many as a row so wide asks for."""
     found = [Ratio(0) for _ in range(ahead)] + numbers
